@@ -12,23 +12,10 @@ import (
 type checker struct {
 	*subtype.Relation
 	graph               *graph.Graph
-	checked             *Checked       // as far as it is known
-	number, truth, text int            // the classes of int, bool, text
-	funcs               map[string]int // by name: the class of the function's type
-	named               []int          // the classes of the types that the bodies name, without those that were come to
-	members             map[asked]found
-}
-
-// asked is a question for a member.
-type asked struct {
-	class int
-	name  string
-}
-
-// found is what Lookup answers.
-type found struct {
-	api.Member
-	why api.Errno
+	checked             *Checked // as far as it is known
+	number, truth, text int      // the classes of int, bool, text
+	named               []int    // the classes of the types that the bodies name, without those that were come to
+	members             *member.Finder
 }
 
 // newChecker begins ahead of the first body. The nodes are those of all that named lists, in its order.
@@ -42,16 +29,15 @@ func newChecker(g *graph.Graph, funcs []api.Code, nodes []int) *checker {
 	c := &checker{
 		Relation: subtype.New(classes),
 		graph:    g,
-		checked:  &Checked{classes: classes, result: types[main]},
+		checked:  &Checked{classes: classes, result: types[main], funcs: map[string]int{}},
 		number:   types[basic],
 		truth:    types[basic+1],
 		text:     types[basic+2],
-		funcs:    map[string]int{},
 		named:    types[main+1 : basic],
-		members:  map[asked]found{},
+		members:  member.NewFinder(classes),
 	}
 	for i, f := range funcs {
-		c.funcs[f.Name] = types[i]
+		c.checked.funcs[f.Name] = types[i]
 	}
 	return c
 }
@@ -72,7 +58,7 @@ func (c *checker) head(code api.Code) []int {
 		class, _ := c.Of(node)
 		return c.Children(class)
 	case code.Name != "":
-		return c.Children(c.funcs[code.Name])
+		return c.Children(c.checked.funcs[code.Name])
 	}
 	return []int{c.checked.result}
 }
@@ -85,15 +71,4 @@ func (c *checker) kind(class int) int {
 func (c *checker) below(a, b int) bool {
 	ok, _ := c.Below(a, b)
 	return ok
-}
-
-// lookup keeps what it finds: a program may ask for few members very often.
-func (c *checker) lookup(class int, name string) (api.Member, api.Errno) {
-	question := asked{class, name}
-	f, ok := c.members[question]
-	if !ok {
-		f.Member, f.why = member.Lookup(c.Classes(), class, name)
-		c.members[question] = f
-	}
-	return f.Member, f.why
 }

@@ -75,7 +75,7 @@ func (b *body) name(x api.Expr) (int, *Refusal) {
 	if class, ok := b.variables[x.S]; ok {
 		return class, nil
 	}
-	if class, ok := b.funcs[x.S]; ok {
+	if class, ok := b.checked.Func(x.S); ok {
 		return class, nil
 	}
 	return 0, &Refusal{Place: x.Place, Why: api.ErrNoName, Name: x.S}

@@ -53,7 +53,7 @@ func (b *body) fill(x api.Expr, parts []int, fields map[string]int) *Refusal {
 // member answers the member of a class that an expression names; it refuses one that is a field where a method must stand,
 // and the other way round.
 func (b *body) member(x api.Expr, class int, field bool) (api.Member, *Refusal) {
-	m, why := b.lookup(class, x.S)
+	m, why := b.members.Lookup(class, x.S)
 	if why == api.OK && field != (m.Kind == api.MField) {
 		why = api.ErrField
 	}

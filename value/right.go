@@ -16,8 +16,14 @@ func listOf(parts []api.Value) list { return list{&parts[0], len(parts)} }
 
 // judge tells which values are right.
 type judge struct {
-	shapes
-	met map[list]int // open or done
+	Shapes
+	met map[list]int           // open or done
+	ask func(v api.Value) bool // what else is asked of them
+}
+
+// newJudge asks nothing else.
+func newJudge(s Shapes) judge {
+	return judge{Shapes: s, met: map[list]int{}, ask: func(api.Value) bool { return true }}
 }
 
 const (
@@ -26,7 +32,7 @@ const (
 )
 
 func (j judge) right(v *api.Value) bool {
-	return fits(v, j.at(v.Class)) && j.allRight(v.Parts)
+	return fits(v, j.at(v.Class)) && j.allRight(v.Parts) && j.ask(*v)
 }
 
 func (j judge) allRight(parts []api.Value) bool {

@@ -15,18 +15,20 @@ type shape struct {
 	children []int
 }
 
-// shapes are those of classes, each worked out when it is first asked for.
-type shapes struct {
+// Shapes are those of classes, each worked out when it is first asked for. A machine asks them of its own values: these are
+// right, and may be far too great to be gone through each time.
+type Shapes struct {
 	*canon.Classes
 	graph *graph.Graph
 	known map[int]shape
 }
 
-func shapesOf(c *canon.Classes) shapes {
-	return shapes{Classes: c, graph: c.Graph(), known: map[int]shape{}}
+// ShapesOf knows nothing yet of these classes.
+func ShapesOf(c *canon.Classes) Shapes {
+	return Shapes{Classes: c, graph: c.Graph(), known: map[int]shape{}}
 }
 
-func (s shapes) at(class int) shape {
+func (s Shapes) at(class int) shape {
 	if known, ok := s.known[class]; ok {
 		return known
 	}
@@ -39,15 +41,32 @@ func (s shapes) at(class int) shape {
 	return made
 }
 
+// Place is the number of a field among the parts of a record's values; false, if that class has no such field.
+func (s Shapes) Place(class int, name string) (int, bool) {
+	shape := s.at(class)
+	i, ok := slices.BinarySearch(shape.names, name)
+	return i, ok && shape.kind == api.TRec
+}
+
+// Text writes a right value, or api.ErrBig.
+func (s Shapes) Text(v api.Value) (string, api.Errno) {
+	w := writer{Shapes: s}
+	w.write(&v)
+	if w.full() {
+		return "", api.ErrBig
+	}
+	return w.String(), api.OK
+}
+
 // field is a field of a right value.
-func (s shapes) field(v *api.Value, name string) (*api.Value, api.Errno) {
+func (s Shapes) field(v *api.Value, name string) (*api.Value, api.Errno) {
 	if v.Kind == api.VPtr {
 		if len(v.Parts) == 0 {
 			return nil, api.ErrNil
 		}
 		v = &v.Parts[0]
 	}
-	i, ok := slices.BinarySearch(s.at(v.Class).names, name) // none, if it is no record
+	i, ok := s.Place(v.Class, name)
 	if !ok {
 		return nil, api.ErrField
 	}

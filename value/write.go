@@ -10,7 +10,7 @@ import (
 // writer writes right values, and stops soon after there is too much.
 type writer struct {
 	strings.Builder
-	shapes
+	Shapes
 }
 
 func (w *writer) full() bool { return w.Builder.Len() > api.MaxString }

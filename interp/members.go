@@ -1,0 +1,74 @@
+package interp
+
+import (
+	"coil/api"
+	"coil/check"
+)
+
+// field answers a field of a value.
+func (f *frame) field(x *check.Expr, v api.Value) (api.Value, api.Errno) {
+	m, _ := f.members.Lookup(x.Parts[0].Class, x.S)
+	return f.walk(v, append(m.Path, x.S)...)
+}
+
+// walk goes from field to field.
+func (f *frame) walk(v api.Value, path ...string) (api.Value, api.Errno) {
+	for _, name := range path {
+		r, why := followed(v)
+		if why != api.OK {
+			return api.Value{}, why
+		}
+		place, _ := f.shapes.Place(r.Class, name)
+		v = r.Parts[place]
+	}
+	return v, api.OK
+}
+
+// followed is a record, or the one that a pointer points to.
+func followed(v api.Value) (api.Value, api.Errno) {
+	switch {
+	case v.Kind != api.VPtr:
+		return v, api.OK
+	case len(v.Parts) == 0:
+		return api.Value{}, api.ErrNil
+	}
+	return v.Parts[0], api.OK
+}
+
+// method calls a method of a value.
+func (f *frame) method(x *check.Expr, v api.Value) (api.Value, api.Errno) {
+	args, why := f.all(x.Parts[1:])
+	if why != api.OK {
+		return api.Value{}, why
+	}
+	self, owner, why := f.holder(x, v)
+	if why != api.OK {
+		return api.Value{}, why
+	}
+	return f.call(f.codes[key{owner, x.S}], self, args)
+}
+
+// holder finds the record that has the method, and its owner: by the class that is known of v, and, where an interface has
+// the method, by the own class of the value there.
+func (f *frame) holder(x *check.Expr, v api.Value) (api.Value, string, api.Errno) {
+	m, _ := f.members.Lookup(x.Parts[0].Class, x.S)
+	v, why := f.walk(v, m.Path...)
+	for why == api.OK && m.Kind == api.MIface {
+		m, _ = f.members.Lookup(v.Class, x.S)
+		v, why = f.walk(v, m.Path...)
+	}
+	if why != api.OK {
+		return api.Value{}, "", why
+	}
+	self, why := followed(v)
+	return self, m.Owner, why
+}
+
+// apply calls a function.
+func (f *frame) apply(x *check.Expr, v api.Value) (api.Value, api.Errno) {
+	args, why := f.all(x.Parts[1:])
+	if why != api.OK {
+		return api.Value{}, why
+	}
+	return f.call(f.codes[key{name: v.S}], api.Value{}, args)
+}
