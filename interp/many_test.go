@@ -41,17 +41,18 @@ func replaced(t *testing.T, src string, made func(api.Expr) api.Expr) *check.Che
 	return accepted(t, p)
 }
 
-// TestDeepFirst: R6, first parts that are nested as deep as they may be, in each of as many open calls as there may be.
+// TestDeepFirst: R6, first parts that are nested as deep as they may be; and very deep in each of as many open calls as there
+// may be.
 func TestDeepFirst(t *testing.T) {
-	const deep = 1<<16 - 8
+	const deep, calls = 1<<16 - 8, 1 << 14
 	add := func(x api.Expr) api.Expr {
-		for range deep {
+		for range calls {
 			x = api.Expr{Kind: api.XAdd, Parts: []api.Expr{x, number(1)}}
 		}
 		return x
 	}
 	c := replaced(t, "func f(n int) int { if n < 1 { return 0; } return f(n - 1); } main int { return f(499); }", add)
-	if o := soon(t, func() api.Outcome { return interp.Run(c, api.MaxFuel) }); o.Why != api.OK || o.Value != strconv.Itoa(deep*499) || o.Steps != 1501 {
+	if o := soon(t, func() api.Outcome { return interp.Run(c, api.MaxFuel) }); o.Why != api.OK || o.Value != strconv.Itoa(calls*499) || o.Steps != 1501 {
 		t.Error(o)
 	}
 	c = replaced(t, "func f(n int) int { return f(n); } main int { return f(499); }", add)
