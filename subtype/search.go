@@ -21,7 +21,7 @@ func (r *Relation) distance(p pair) int {
 	if !r.concludes(p) {
 		return 0
 	}
-	return r.distances[r.settle(p)]
+	return r.settle(p)
 }
 
 // none ends a list of uses.
@@ -43,7 +43,7 @@ type search struct {
 	ends  [][]int // by length: the pairs from which a way of that length leads to one that is no conclusion
 }
 
-// settle makes the distance of a conclusion known, and answers the number that it gets.
+// settle makes the distance of a conclusion known, and answers it.
 func (r *Relation) settle(p pair) int {
 	s := search{Relation: r, first: len(r.distances)}
 	s.meet(p)
@@ -58,7 +58,7 @@ func (r *Relation) settle(p pair) int {
 			s.distances[s.first+i] = endless
 		}
 	}
-	return s.first
+	return s.distances[s.first]
 }
 
 // meet answers the number of a pair; one that was not met yet gets the next one.
