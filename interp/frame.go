@@ -3,6 +3,7 @@ package interp
 import (
 	"coil/api"
 	"coil/check"
+	"coil/value"
 )
 
 // frame is what an open call has. What an expression does there is its method.
@@ -55,9 +56,9 @@ func (f *frame) all(l []check.Expr) ([]api.Value, api.Errno) {
 func (f *frame) start(x *check.Expr) (api.Value, api.Errno) {
 	switch x.Kind {
 	case api.XInt:
-		return number(x, x.N), api.OK
+		return value.OfInt(x.Class, x.N), api.OK
 	case api.XText:
-		return text(x, x.S)
+		return value.OfText(x.Class, x.S)
 	case api.XBool:
 		return api.Value{Kind: api.VBool, Class: x.Class, N: x.N}, api.OK
 	case api.XVar:
@@ -75,10 +76,7 @@ func (f *frame) start(x *check.Expr) (api.Value, api.Errno) {
 	if why != api.OK {
 		return api.Value{}, why
 	}
-	if x.Kind == api.XNeg {
-		return number(x, -v.N), api.OK
-	}
-	return truth(x, !isTrue(v)), api.OK
+	return value.Unary(x.Kind, x.Class, v), api.OK
 }
 
 // goOn answers the value of an expression whose first part has a value.
@@ -93,7 +91,7 @@ func (f *frame) goOn(x *check.Expr, first api.Value) (api.Value, api.Errno) {
 	case api.XTo:
 		return f.cast(x, first)
 	case api.XAnd, api.XOr:
-		if isTrue(first) == (x.Kind == api.XOr) { // it decides
+		if value.True(first) == (x.Kind == api.XOr) { // it decides
 			return first, api.OK
 		}
 	}
@@ -101,7 +99,7 @@ func (f *frame) goOn(x *check.Expr, first api.Value) (api.Value, api.Errno) {
 	if why != api.OK {
 		return api.Value{}, why
 	}
-	return combine(x, first, second)
+	return value.Binary(x.Kind, x.Class, first, second)
 }
 
 // name answers the value of a variable, or the function of that name.

@@ -3,36 +3,13 @@ package interp
 import (
 	"coil/api"
 	"coil/check"
+	"coil/value"
 )
 
 // field answers a field of a value.
 func (f *frame) field(x *check.Expr, v api.Value) (api.Value, api.Errno) {
 	m, _ := f.members.Lookup(x.Parts[0].Class, x.S)
-	return f.walk(v, append(m.Path, x.S)...)
-}
-
-// walk goes from field to field.
-func (f *frame) walk(v api.Value, path ...string) (api.Value, api.Errno) {
-	for _, name := range path {
-		r, why := followed(v)
-		if why != api.OK {
-			return api.Value{}, why
-		}
-		place, _ := f.shapes.Place(r.Class, name)
-		v = r.Parts[place]
-	}
-	return v, api.OK
-}
-
-// followed is a record, or the one that a pointer points to.
-func followed(v api.Value) (api.Value, api.Errno) {
-	switch {
-	case v.Kind != api.VPtr:
-		return v, api.OK
-	case len(v.Parts) == 0:
-		return api.Value{}, api.ErrNil
-	}
-	return v.Parts[0], api.OK
+	return f.shapes.Walk(v, append(m.Path, x.S)...)
 }
 
 // method calls a method of a value.
@@ -52,15 +29,15 @@ func (f *frame) method(x *check.Expr, v api.Value) (api.Value, api.Errno) {
 // the method, by the own class of the value there.
 func (f *frame) holder(x *check.Expr, v api.Value) (api.Value, string, api.Errno) {
 	m, _ := f.members.Lookup(x.Parts[0].Class, x.S)
-	v, why := f.walk(v, m.Path...)
+	v, why := f.shapes.Walk(v, m.Path...)
 	for why == api.OK && m.Kind == api.MIface {
 		m, _ = f.members.Lookup(v.Class, x.S)
-		v, why = f.walk(v, m.Path...)
+		v, why = f.shapes.Walk(v, m.Path...)
 	}
 	if why != api.OK {
 		return api.Value{}, "", why
 	}
-	self, why := followed(v)
+	self, why := value.Followed(v)
 	return self, m.Owner, why
 }
 

@@ -3,6 +3,7 @@ package interp
 import (
 	"coil/api"
 	"coil/check"
+	"coil/value"
 )
 
 // body runs the statements of an open call; what their expressions do is its frame's.
@@ -38,7 +39,7 @@ func (b *body) stmt(s *check.Stmt) (bool, api.Errno) {
 	case api.SPrint:
 		return false, b.print(v)
 	case api.SIf:
-		if isTrue(v) {
+		if value.True(v) {
 			return b.block(s.Body)
 		}
 		return b.block(s.Else)
@@ -61,7 +62,7 @@ func (b *body) begin(s *check.Stmt) (api.Value, api.Errno) {
 
 // loop runs a body as long as its statement's expression, which has a value already, is true.
 func (b *body) loop(s *check.Stmt, v api.Value) (bool, api.Errno) {
-	for isTrue(v) {
+	for value.True(v) {
 		returned, why := b.block(s.Body)
 		if returned || why != api.OK {
 			return returned, why

@@ -11,7 +11,7 @@ import (
 // shape is what a class asks of its values; the kind of one that is none is 0.
 type shape struct {
 	kind     int
-	names    []string // of a record: its fields', in the order of the children
+	names    []string // of a record's fields, or an interface's methods, in the order of the children
 	children []int
 }
 
@@ -41,11 +41,10 @@ func (s Shapes) at(class int) shape {
 	return made
 }
 
-// Place is the number of a field among the parts of a record's values; false, if that class has no such field.
+// Place is the number of a field among the parts of a record's values, or that of a method among an interface's; false, if
+// that class has none of that name itself.
 func (s Shapes) Place(class int, name string) (int, bool) {
-	shape := s.at(class)
-	i, ok := slices.BinarySearch(shape.names, name)
-	return i, ok && shape.kind == api.TRec
+	return slices.BinarySearch(s.at(class).names, name)
 }
 
 // Text writes a right value, or api.ErrBig.
@@ -58,17 +57,29 @@ func (s Shapes) Text(v api.Value) (string, api.Errno) {
 	return w.String(), api.OK
 }
 
-// field is a field of a right value.
-func (s Shapes) field(v *api.Value, name string) (*api.Value, api.Errno) {
-	if v.Kind == api.VPtr {
-		if len(v.Parts) == 0 {
-			return nil, api.ErrNil
+// Walk goes from field to field of a right value. What it comes to shares memory with that one.
+func (s Shapes) Walk(v api.Value, path ...string) (api.Value, api.Errno) {
+	for _, name := range path {
+		r, why := Followed(v)
+		if why != api.OK {
+			return api.Value{}, why
 		}
-		v = &v.Parts[0]
+		i, ok := s.Place(r.Class, name)
+		if !ok {
+			return api.Value{}, api.ErrField
+		}
+		v = r.Parts[i]
 	}
-	i, ok := s.Place(v.Class, name)
-	if !ok {
-		return nil, api.ErrField
+	return v, api.OK
+}
+
+// Followed is what a pointer points to, any other value itself.
+func Followed(v api.Value) (api.Value, api.Errno) {
+	switch {
+	case v.Kind != api.VPtr:
+		return v, api.OK
+	case len(v.Parts) == 0:
+		return api.Value{}, api.ErrNil
 	}
-	return &v.Parts[i], api.OK
+	return v.Parts[0], api.OK
 }

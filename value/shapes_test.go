@@ -8,7 +8,7 @@ import (
 	"coil/value"
 )
 
-// TestPlace: the number of a field is that of its value among a record's parts.
+// TestPlace: the number of a field is that of its value among a record's parts; an interface's methods have theirs, too.
 func TestPlace(t *testing.T) {
 	w := all(t)
 	s := value.ShapesOf(w.Classes)
@@ -17,8 +17,8 @@ func TestPlace(t *testing.T) {
 		place    int
 		ok       bool
 	}{
-		{"A", "next", 0, true}, {"A", "x", 1, true}, {"S", "a", 0, true}, {"S", "b", 1, true}, {"S", "m", 2, true}, {"S", "zz", 3, true}, {"O", "y", 1, true}, {"B", "a", 0, true},
-		{"A", "y", 0, false}, {"E", "x", 0, false}, {"*A", "x", 0, false}, {"I", "m", 0, false}, {"int", "x", 0, false}, {"O", "m", 0, false}, {"B", "x", 0, false}, {"A", "", 0, false},
+		{"A", "next", 0, true}, {"A", "x", 1, true}, {"S", "a", 0, true}, {"S", "b", 1, true}, {"S", "m", 2, true}, {"S", "zz", 3, true}, {"O", "y", 1, true}, {"B", "a", 0, true}, {"I", "m", 0, true},
+		{"A", "y", 0, false}, {"E", "x", 0, false}, {"*A", "x", 0, false}, {"int", "x", 0, false}, {"O", "m", 0, false}, {"B", "x", 0, false}, {"I", "x", 0, false}, {"*I", "m", 0, false}, {"A", "", 0, false},
 	} {
 		for range 2 {
 			if place, ok := s.Place(w.class(x.of), x.name); ok != x.ok || ok && place != x.place {
